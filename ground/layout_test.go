@@ -16,7 +16,7 @@ import (
 
 const root = ".."
 
-// layers are the map of the document: of each layer which others it calls, api aside.
+// layers are the map of the document: of each layer which others it calls, api aside. Of point the map tells api alone, its own chapter that it calls wire: the chapter, the nearer word, holds.
 func layers() map[string]string {
 	return map[string]string{
 		"api":    "",
@@ -28,7 +28,7 @@ func layers() map[string]string {
 		"frame":  "rs wire",
 		"tag":    "wire",
 		"media":  "nand frame tag",
-		"point":  "",
+		"point":  "wire",
 		"claim":  "",
 		"pool":   "",
 		"pmap":   "geom",
