@@ -43,33 +43,91 @@ func goOn(d *disk, s *source) {
 	d.wantAll()
 }
 
-// One block that fails, each, at a write behind so many, or at an erase, at each deed on each ground.
-func TestOneFailure(t *testing.T) {
+// harm makes a block fail: at the write behind so many, or, if these are below 0, at its next erase.
+type harm struct{ block, after int }
+
+func (h harm) doTo(chip *nand.Chip) {
+	if h.after < 0 {
+		chip.FailErase(h.block)
+		return
+	}
+	chip.FailProgram(h.block, h.after)
+}
+
+// harmsOf are the harms by which each step that was done between two sights of a chip fails, one at a time: each write of a chunk, each erase. An erase of what was erased can't be seen: erased are the blocks of which this is known.
+func harmsOf(was, is *nand.Chip, erased []int) []harm {
+	var list []harm
+	for block := range 12 {
+		writes, gone := 0, slices.Contains(erased, block)
+		for place := 8 * block; place < 8*block+8; place++ {
+			for chunk := range 4 {
+				_, before, _ := was.Truth(place, chunk)
+				_, behind, _ := is.Truth(place, chunk)
+				if behind && !before {
+					writes++
+				}
+				gone = gone || before && !behind
+			}
+		}
+		for after := range writes {
+			list = append(list, harm{block, after})
+		}
+		if gone {
+			list = append(list, harm{block, -1})
+		}
+	}
+	return list
+}
+
+// harmed does a deed on a ground that some harm was done to, and tells which harm more would meet it.
+func harmed(t *testing.T, g ground, e deed, done ...harm) (*disk, []harm) {
+	t.Helper()
+	d := set(t, g, e)
+	for _, h := range done {
+		h.doTo(d.chip)
+	}
+	was, bad := d.chip.Clone(), count(d.view().States, api.Bad)
+	var erased []int
+	if e.name == "clean" {
+		erased = nextFree(d, 0)
+	}
+	wantStands(d, e, bad, e.done(d))
+	return d, harmsOf(was, d.chip, erased)
+}
+
+// A failure at every step of each deed on each ground; and behind some of them a second one, at a step of what is done then.
+func TestFailureAtEachStep(t *testing.T) {
+	t.Parallel()
 	for _, g := range grounds() {
 		t.Run(g.name, func(t *testing.T) {
 			t.Parallel()
-			met := 0
+			s := source(len(g.name))
+			once, twice := 0, 0
 			for _, e := range deeds() {
-				for block := range 12 {
-					for _, after := range []int{-1, 0, 2, 4, 11, 17, 27} {
-						d := set(t, g, e)
-						if after < 0 {
-							d.chip.FailErase(block)
-						} else {
-							d.chip.FailProgram(block, after)
+				_, first := harmed(t, g, e)
+				for i, h := range first {
+					d, second := harmed(t, g, e, h)
+					if !failedOf(d.chip)[h.block] {
+						t.Fatalf("%s: %+v wasn't met", e.name, h)
+					}
+					once++
+					if i%3 == 0 {
+						goOn(d, &s)
+					}
+					for j, more := range second {
+						if (i+j)%13 > 0 || more.block == h.block {
+							continue
 						}
-						bad := count(d.view().States, api.Bad)
-						wantStands(d, e, bad, e.done(d))
-						if failedOf(d.chip)[block] {
-							met++
-							s := source(block + 100*after)
+						d, _ := harmed(t, g, e, h, more)
+						twice++
+						if j%2 == 0 {
 							goOn(d, &s)
 						}
 					}
 				}
 			}
-			if met < 40 {
-				t.Errorf("only %d failures were met", met)
+			if once < 100 || twice < 50 && g.name != "two are bad" {
+				t.Errorf("only %d failures, and %d second ones", once, twice)
 			}
 		})
 	}
@@ -77,6 +135,7 @@ func TestOneFailure(t *testing.T) {
 
 // Several blocks that fail in one call.
 func TestSeveralFailures(t *testing.T) {
+	t.Parallel()
 	for i, g := range grounds() {
 		t.Run(g.name, func(t *testing.T) {
 			t.Parallel()
@@ -114,6 +173,7 @@ func TestSeveralFailures(t *testing.T) {
 
 // All blocks fail at their first write and at their erase: whatever is done, all is read as before.
 func TestAllFail(t *testing.T) {
+	t.Parallel()
 	for _, g := range grounds() {
 		for _, e := range deeds() {
 			for _, erases := range []bool{false, true} {
@@ -135,6 +195,7 @@ func TestAllFail(t *testing.T) {
 
 // Failures one by one, until it is worn out: up to two nothing is to be seen of them.
 func TestFailuresUntilWornOut(t *testing.T) {
+	t.Parallel()
 	for start := range 15 {
 		s := source(start)
 		d := newDisk(t)

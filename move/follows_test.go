@@ -142,6 +142,7 @@ func (d *disk) wantNoDamage(v api.View, place int) {
 
 // A sector that is read over and over, tended behind each call: no block in which something counts is read much more than 512 times.
 func TestReadsOverAndOver(t *testing.T) {
+	t.Parallel()
 	d := newDisk(t)
 	d.fill(0)
 	for range 2500 {

@@ -62,6 +62,7 @@ func TestCallsThatDontMeetTheChip(t *testing.T) {
 
 // Each deed on each ground, cut at each of its steps.
 func TestCutAtEachStep(t *testing.T) {
+	t.Parallel()
 	for _, g := range grounds() {
 		t.Run(g.name, func(t *testing.T) {
 			t.Parallel()

@@ -43,6 +43,7 @@ func TestTendReadsTheNextEightPages(t *testing.T) {
 
 // The pages that are read are those: damage is seen there, and nowhere else.
 func TestTendSeesWhatItReads(t *testing.T) {
+	t.Parallel()
 	for of := range 24 {
 		for cursor := range 12 {
 			d := newDisk(t)
@@ -375,6 +376,7 @@ func TestTendNotesOnce(t *testing.T) {
 
 // Every page that counts is read within twelve calls, whatever is put and moved between.
 func TestTendReadsAllPages(t *testing.T) {
+	t.Parallel()
 	d := newDisk(t)
 	d.fill(0)
 	for turn := range 60 {

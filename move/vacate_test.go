@@ -334,6 +334,7 @@ func nextFree(d *disk, last int) []int {
 
 // The block that is copied into fails, at any chunk of any page: it is bad, a checkpoint tells this ahead of the next try, at the frontier; and the next try ends.
 func TestVacateWhereTheCopyFails(t *testing.T) {
+	t.Parallel()
 	for bad := range 3 {
 		for after := range 30 {
 			for _, open := range []bool{false, true} {
