@@ -89,63 +89,47 @@ func TestCutsOfEachCall(t *testing.T) {
 	}
 }
 
-// chains are cuts of deeds, behind each of which a mount is cut behind no step, the next one behind one, and so on, until one is done.
-func chains() []struct {
-	ground, deed string
-	every        int
-} {
-	return []struct {
-		ground, deed string
-		every        int
-	}{
-		{"young", "put over", 1},
-		{"young", "trim", 2},
-		{"brimming", "put over", 4},
-		{"brimming", "trim", 5},
-		{"brimming", "retire a full block", 5},
-		{"brimming", "vacate the frontier", 5},
-		{"one has failed", "put the last", 5},
-		{"one has failed", "retire the frontier", 5},
-		{"one has failed, one was retired", "tend what is weak", 7},
-		{"one has failed, one was retired", "vacate a full block", 5},
-		{"mounted", "note", 3},
-		{"mounted", "tend what is damaged", 9},
+// oneChainIn: of these chains one in so many is tried. All of them take too long for each run.
+const oneChainIn = 5
+
+// Behind a deed that was cut a mount is cut behind no step, the next one behind one, and so on, until one is done.
+func TestMountsThatAreCutOneAfterTheOther(t *testing.T) {
+	t.Parallel()
+	for i, g := range grounds() {
+		t.Run(g.name, func(t *testing.T) {
+			t.Parallel()
+			tries := 0
+			for j, e := range deeds() {
+				for budget := (i + 3*j) % oneChainIn; ; budget += oneChainIn {
+					d := set(t, g, e)
+					if !d.cutDeed(e, budget) {
+						break
+					}
+					d.chain()
+					d.wantFound()
+					tries++
+				}
+			}
+			if tries < 15 {
+				t.Errorf("only %d chains", tries)
+			}
+		})
 	}
 }
 
-func TestMountsThatAreCutOneAfterTheOther(t *testing.T) {
-	t.Parallel()
-	byName := map[string]ground{}
-	for _, g := range grounds() {
-		byName[g.name] = g
+// chain cuts mounts at each of their steps, one after the other.
+func (d *disk) chain() {
+	d.Helper()
+	steps := 0
+	for d.cutMount(steps) {
+		d.wantTold()
+		steps++
 	}
-	for _, c := range chains() {
-		for _, e := range deeds() {
-			if e.name != c.deed {
-				continue
-			}
-			t.Run(c.ground+", "+c.deed, func(t *testing.T) {
-				t.Parallel()
-				for budget := 0; ; budget += c.every {
-					d := set(t, byName[c.ground], e)
-					if !d.cutDeed(e, budget) {
-						return
-					}
-					steps := 0
-					for d.cutMount(steps) {
-						d.wantTold()
-						steps++
-					}
-					d.wantRest()
-					d.wantAll()
-					if steps < boundOf(count(d.view().States, api.Bad)) {
-						t.Fatalf("a mount of %d steps", steps)
-					}
-					d.wantFound()
-				}
-			})
-		}
+	if steps < boundOf(count(d.view().States, api.Bad)) {
+		d.Fatalf("a mount of %d steps", steps)
 	}
+	d.wantRest()
+	d.wantAll()
 }
 
 // The same mount cut at the same step, over and over: it goes no further, and nothing is worn by it.
