@@ -16,7 +16,7 @@ import (
 
 const root = ".."
 
-// layers are the map of the document: of each layer which others it calls, api aside. Of point the map tells api alone, its own chapter that it calls wire: the chapter, the nearer word, holds.
+// layers are the map of the document: of each layer which others it calls, api aside. Of point the map tells api alone, its own chapter that it calls wire; of world the chapter tells layers that the map doesn't, and not array: the chapter, the nearer word, holds.
 func layers() map[string]string {
 	return map[string]string{
 		"api":    "",
@@ -41,7 +41,7 @@ func layers() map[string]string {
 		"dev":    "nand move mount",
 		"array":  "",
 		"script": "",
-		"world":  "nand dev array script",
+		"world":  "wire nand tag point claim dev script",
 		"judge":  "nand dev world",
 	}
 }
