@@ -16,7 +16,7 @@ import (
 
 const root = ".."
 
-// layers are the map of the document: of each layer which others it calls, api aside. Of point the map tells api alone, its own chapter that it calls wire; of world the chapter tells layers that the map doesn't, and not array: the chapter, the nearer word, holds.
+// layers are the map of the document: of each layer which others it calls, api aside. Of point the map tells api alone, its own chapter that it calls wire; of world the chapter tells layers that the map doesn't, and not array; of judge script, and neither nand nor dev: the chapter, the nearer word, holds.
 func layers() map[string]string {
 	return map[string]string{
 		"api":    "",
@@ -42,7 +42,7 @@ func layers() map[string]string {
 		"array":  "",
 		"script": "",
 		"world":  "wire nand tag point claim dev script",
-		"judge":  "nand dev world",
+		"judge":  "script world",
 	}
 }
 
