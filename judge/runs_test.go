@@ -8,6 +8,8 @@ import (
 
 	"patina/api"
 	"patina/judge"
+	"patina/media"
+	"patina/nand"
 )
 
 // P23.3 (T1, T2, T5): whatever text is played, the last line is held.
@@ -242,6 +244,56 @@ func TestTextsOfEachCut(t *testing.T) {
 			}
 		})
 	}
+}
+
+// Sectors that are written once, and moved again and again: more often than there are copies to tell one move from the next; and the power goes between.
+func TestTextsOfManyMoves(t *testing.T) {
+	t.Parallel()
+	d := begun(28000, harms{data: 2, sectors: 3})
+	d.readAll()
+	for sector := range 3 {
+		d.do(2, sector, 70+sector)
+	}
+	turns := 0 // of sectors whose copies began again at 0
+	var last [3]int
+	for round := 0; turns < 3 && round < 2000; round++ {
+		d.mount()
+		if d.below(12) == 0 {
+			d.do(9, d.below(20))
+		}
+		sector := round % 3
+		live, _ := counting(d.w.Chip())
+		chunk := d.below(4)
+		for _, at := range []int{d.below(256), 256 + d.below(256)} {
+			d.do(6, live[sector], 512*chunk+at)
+		}
+		d.do(1, sector)
+		d.mount()
+		d.do(1, sector)
+		for of, copy := range copiesOf(d.w.Chip()) {
+			if copy < last[of] {
+				turns++
+			}
+			last[of] = copy
+		}
+	}
+	d.readAll()
+	if turns < 3 || d.w.Look().Broken {
+		t.Errorf("%d turns, in %d steps; Look: %s", turns, len(d.l), lookShown(d.w.Look()))
+	}
+	wantHeld(t, "many moves", d)
+}
+
+// copiesOf are the copies of the first three sectors, as what counts tells them.
+func copiesOf(chip *nand.Chip) (copies [3]int) {
+	live, _ := counting(chip)
+	chip = chip.Clone()
+	chip.Power()
+	for of := range copies {
+		page, _ := media.New(chip).Read(live[of])
+		copies[of] = page.Tag.Copy
+	}
+	return copies
 }
 
 // The longest text that Parse takes.
